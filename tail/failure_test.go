@@ -6,6 +6,7 @@ import (
 
 	"corbel/api"
 	"corbel/geom"
+	"corbel/plan"
 )
 
 // noteRecord is what a drive's log has of a row that is not full: what the document's layers 13 and 14 call a note.
@@ -38,23 +39,24 @@ func newWritten(g api.Geometry, zone int) *written {
 	}
 }
 
-// write does the steps of layer 13: each block, the parity after the last block of a row, and a note of a row that is begun.
+// write does the steps of layer 13 for the next n blocks.
 func (w *written) write(n int) {
-	perRow := w.g.Drives - 1
+	from := len(w.blocks)
 	for range n {
-		row, slot, _ := geom.Place(w.g, w.zone, len(w.blocks))
-		x := w.contentOfNext()
-		w.blocks = append(w.blocks, x)
-		w.data[slot] = append(w.data[slot], x)
-		if len(w.blocks)%perRow == 0 {
-			parity := geom.Parity(w.g, w.zone, row)
-			w.data[parity] = append(w.data[parity], sum(w.blocks[row*perRow:]))
-		}
+		w.blocks = append(w.blocks, w.contentOfNext())
 	}
-	if count := len(w.blocks) % perRow; n > 0 && count > 0 {
-		row := len(w.blocks) / perRow
-		slot := geom.Parity(w.g, w.zone, row)
-		w.notes[slot] = append(w.notes[slot], noteRecord{Noted{row, count}, sum(w.blocks[row*perRow:])})
+	perRow := w.g.Drives - 1
+	steps, _ := plan.Write(w.g, w.zone, from, n)
+	for _, s := range steps {
+		first := s.Row * perRow
+		switch s.Kind {
+		case plan.Data:
+			w.data[s.Slot] = append(w.data[s.Slot], w.blocks[s.Block])
+		case plan.Parity:
+			w.data[s.Slot] = append(w.data[s.Slot], sum(w.blocks[first:first+perRow]))
+		case plan.Note:
+			w.notes[s.Slot] = append(w.notes[s.Slot], noteRecord{Noted{s.Row, s.Count}, sum(w.blocks[first : first+s.Count])})
+		}
 	}
 }
 
